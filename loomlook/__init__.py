@@ -1,0 +1,1 @@
+"""Loomlook: woven machines looked at in every weaving."""
