@@ -1,11 +1,68 @@
 """Things that the tests of several modules use."""
 
+import random
+
+from loomlook.values import worth
+
+PARTS = ["size", "boxes", "locks", "programs", "workers", "claims"]
+
+STEPS = (
+    ("take", "l"),
+    ("get", "a", "x"),
+    ("set", "b", ("plus", ("own", "a"), ("number", 1))),
+    ("unless", ("less", ("own", "b"), ("number", 9)), 2),
+    ("put", "x", ("own", "b")),
+    ("add", "y", ("number", 99)),
+    ("give", "l"),
+)
+
+# A loom with something in each of its parts.
+ORDINARY = (
+    10,
+    (("x", 0), ("y", 9)),
+    ("l",),
+    (("adder", (("a", 0), ("b", 3)), STEPS),
+     ("watcher", (), (("wait", "x", ("number", 2)), ("check", ("number", 1)), ("skip", 0)))),
+    (0, 1, 0),
+    (("same", ("box", "x"), ("number", 2)), ("not", ("box", "y"))),
+)
+
+SMALLEST = (2, (), (), (("p", (), ()),), (0,), ())
+
 
 def chain(value, times):
     """The value with "not" around it, so many times."""
     for turn in range(times):
         value = ("not", value)
     return value
+
+
+def letters(many, first="a"):
+    return [chr(ord(first) + turn) for turn in range(many)]
+
+
+def held(many, number=0):
+    return tuple((name, number) for name in letters(many))
+
+
+def greatest_program(name):
+    return (name, held(4, 15), (("set", "a", chain(("own", "d"), 4)),) * 29 + (("skip", 0),))
+
+
+GREATEST = (
+    16,
+    held(8, 15),
+    tuple(letters(4, "w")),
+    tuple(greatest_program(name * 8) for name in letters(4)),
+    (0, 1, 2, 3, 3, 0),
+    (chain(("box", "h"), 4),) * 4,
+)
+
+
+def with_part(loom, **changes):
+    parts = dict(zip(PARTS, loom))
+    parts.update(changes)
+    return tuple(parts[part] for part in PARTS)
 
 
 def deep_tuple(times):
@@ -56,3 +113,141 @@ def spoiled(thing):
             yield things_with(thing, place, strange)
         for other in spoiled(part):
             yield things_with(thing, place, other)
+
+
+def kinds_of(thing):
+    """The thing with each part's kind beside it, so that 1 and True, or a list and a tuple, are told apart."""
+    if isinstance(thing, (tuple, list)):
+        return (type(thing), [kinds_of(part) for part in thing])
+    return (type(thing), thing)
+
+
+def loom_with(*programs, size=5, boxes=(("x", 0), ("y", 0)), locks=("l", "m"), owns=(("a", 0), ("b", 1)), claims=()):
+    """A loom with one worker of each program; a program is told by its steps alone."""
+    made = tuple((name, owns, tuple(steps)) for name, steps in zip("pqrs", programs))
+    return (size, boxes, locks, made, tuple(range(len(made))), claims)
+
+
+def first_of(loom):
+    size, boxes, locks, programs, workers, claims = loom
+    spots = tuple((0, tuple(number for name, number in programs[worker][1])) for worker in workers)
+    return (tuple(number for name, number in boxes), tuple(-1 for lock in locks), spots)
+
+
+def stepped(loom, state, worker):
+    """The state behind a worker's step, None where it isn't able: told apart from the program."""
+    size, boxes, locks, programs, workers, claims = loom
+    name, owns, steps = programs[workers[worker]]
+    place, numbers = state[2][worker]
+    if place in (-1, len(steps)):
+        return None
+    box = dict(zip([each[0] for each in boxes], state[0]))
+    lock = dict(zip(locks, state[1]))
+    own = dict(zip([each[0] for each in owns], numbers))
+    place += 1
+    match steps[place - 1]:
+        case ("set", target, value):
+            own[target] = worth(value, size, own, box)
+        case ("get", target, source):
+            own[target] = box[source]
+        case ("put", target, value):
+            box[target] = worth(value, size, own, box)
+        case ("add", target, value):
+            box[target] = (box[target] + worth(value, size, own, box)) % size
+        case ("take", target):
+            if lock[target] != -1:
+                return None
+            lock[target] = worker
+        case ("give", target):
+            if lock[target] == worker:
+                lock[target] = -1
+            else:
+                place = -1
+        case ("wait", target, value):
+            if box[target] != worth(value, size, own, box):
+                return None
+        case ("check", value):
+            place = -1 if worth(value, size, own, box) == 0 else place
+        case ("skip", many):
+            place += many
+        case ("unless", value, many):
+            place += many if worth(value, size, own, box) == 0 else 0
+    spots = list(state[2])
+    spots[worker] = (place, tuple(own.values()))
+    return (tuple(box.values()), tuple(lock.values()), tuple(spots))
+
+
+def able_in(loom, state):
+    return [worker for worker in range(len(loom[4])) if stepped(loom, state, worker) is not None]
+
+
+def all_weavings(loom):
+    """Every weaving, to ends or not, with the state it comes to: the shorter ones first, then the lesser ones."""
+    layer = [([], first_of(loom))]
+    while layer:
+        yield from layer
+        layer = [(weaving + [worker], stepped(loom, state, worker))
+                 for weaving, state in layer for worker in able_in(loom, state)]
+
+
+def all_states(loom):
+    """Every state that a weaving comes to, in no order that is told."""
+    states = [first_of(loom)]
+    known = set(states)
+    for state in states:
+        for worker in able_in(loom, state):
+            behind = stepped(loom, state, worker)
+            if behind not in known:
+                known.add(behind)
+                states.append(behind)
+    return states
+
+
+def chance_value(chance, names, depth):
+    """A value over names of one word (own or box) and numbers."""
+    word = chance.choice(["number", "name", "plus", "minus", "less", "same", "not"][:2 if depth == 1 else 7])
+    if word == "name" and names[1]:
+        return (names[0], chance.choice(names[1]))
+    if word in ("number", "name"):
+        return ("number", chance.choice([0, 1, 2, 3, 10, 99]))
+    if word == "not":
+        return ("not", chance_value(chance, names, depth - 1))
+    return (word, chance_value(chance, names, depth - 1), chance_value(chance, names, depth - 1))
+
+
+def chance_step(chance, owns, boxes, locks, behind, depth):
+    words = ["check", "skip", "unless"] + ["set"] * bool(owns) + ["get"] * bool(owns and boxes)
+    words += ["put", "add", "wait"] * bool(boxes) + ["take", "give"] * 2 * bool(locks)
+    word = chance.choice(words)
+    value = chance_value(chance, ("own", owns), depth)
+    return {
+        "set": lambda: ("set", chance.choice(owns), value),
+        "get": lambda: ("get", chance.choice(owns), chance.choice(boxes)),
+        "put": lambda: ("put", chance.choice(boxes), value),
+        "add": lambda: ("add", chance.choice(boxes), value),
+        "take": lambda: ("take", chance.choice(locks)),
+        "give": lambda: ("give", chance.choice(locks)),
+        "wait": lambda: ("wait", chance.choice(boxes), value),
+        "check": lambda: ("check", value),
+        "skip": lambda: ("skip", chance.randint(0, behind)),
+        "unless": lambda: ("unless", value, chance.randint(0, behind)),
+    }[word]()
+
+
+def chance_loom(seed, most_workers=3, most_steps=3, depth=2):
+    """A loom of many: the same one for the same seed."""
+    chance = random.Random(seed)
+    size = chance.randint(2, 4)
+    boxes = [(name, chance.randrange(size)) for name in "xy"[:chance.randint(0, 2)]]
+    locks = list("lm"[:chance.randint(0, 2)])
+    box_names = [name for name, number in boxes]
+    programs = []
+    for name in "pqr"[:chance.randint(1, 3)]:
+        owns = [(own, chance.randrange(size)) for own in "ax"[:chance.randint(0, 2)]]
+        own_names = [own for own, number in owns]
+        behind = reversed(range(chance.randint(0, most_steps)))
+        steps = [chance_step(chance, own_names, box_names, locks, many, depth) for many in behind]
+        programs.append((name, tuple(owns), tuple(steps)))
+    workers = [chance.randrange(len(programs)) for turn in range(chance.randint(1, most_workers))]
+    claims = [chance_value(chance, ("box", box_names), depth) for turn in range(chance.randint(0, 2))]
+    return (size, tuple(boxes), tuple(locks), tuple(programs), tuple(workers), tuple(claims))

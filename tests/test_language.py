@@ -23,6 +23,11 @@ NO_NAMES = """register mro elements open input version_info with_traceback add_n
 compile copyright credits delattr dir eval exec exit gc getattr globals hasattr help id importlib license locals
 methodcaller os quit setattr super sys vars __name__ format format_map""".split()
 
+UNDERSCORED = ["__init__", "__eq__", "__repr__", "__str__", "__len__", "__all__", "__version__"]
+
+# No method and no value of an object is called like one of theirs (L26, held narrower here).
+PLAIN_KINDS = (str, int, list, dict, set, bytes, tuple)
+
 STATEMENTS = (ast.Assign, ast.AugAssign, ast.If, ast.While, ast.For, ast.Return, ast.Break, ast.Continue, ast.Pass,
               ast.Raise, ast.Try, ast.Expr, ast.FunctionDef, ast.ClassDef, ast.ImportFrom)
 NO_NODES = (ast.SetComp, ast.DictComp, ast.GeneratorExp, ast.NamedExpr, ast.Starred, ast.Div, ast.Yield,
@@ -77,6 +82,11 @@ def bound_names(tree):
     return names
 
 
+def is_plain_piece(piece):
+    """L7: what may stand within an f-string's braces."""
+    return isinstance(piece.value, ast.Name) and piece.conversion in (-1, ord("r")) and piece.format_spec is None
+
+
 def faults_of_node(node, bound):
     line = getattr(node, "lineno", 0)
     if isinstance(node, ast.FunctionDef):
@@ -96,6 +106,8 @@ def faults_of_node(node, bound):
     if isinstance(node, NO_NODES) or isinstance(node, ast.Constant) and isinstance(node.value, (float, bytes, complex)):
         yield ("L7", line)
     if isinstance(node, ast.ListComp) and (len(node.generators) > 1 or len(node.generators[0].ifs) > 1):
+        yield ("L7", line)
+    if isinstance(node, ast.FormattedValue) and not is_plain_piece(node):
         yield ("L7", line)
     if isinstance(node, ast.Name) and isinstance(node.ctx, ast.Load) and node.id not in bound | set(OWN_NAMES):
         yield ("L8", line)
@@ -117,7 +129,7 @@ def faults_of_imports(tree, package):
 def faults_of_names(tree):
     taken = set(dir(__builtins__) if not isinstance(__builtins__, dict) else __builtins__)
     for name in sorted(bound_names(tree)):
-        if name.startswith("_") or not name.isascii():
+        if name.startswith("_") and name not in UNDERSCORED or not name.isascii():
             yield ("L12", name)
         if name in taken:
             yield ("L15", name)
@@ -141,12 +153,24 @@ def faults_of_top(tree):
         yield ("L15", 0)
 
 
-def faults_of_text(text, package="loomlook"):
+def methods_and_values(tree):
+    """The names of the methods, and of the values given to objects, in a file's classes."""
+    methods = set()
+    values = set()
+    for node in ast.walk(tree):
+        if isinstance(node, ast.ClassDef):
+            methods.update(each.name for each in node.body if isinstance(each, ast.FunctionDef))
+        elif isinstance(node, ast.Attribute) and isinstance(node.ctx, ast.Store):
+            values.add(node.attr)
+    return methods, values
+
+
+def faults_of_text(text, package="loomlook", own_methods=()):
     tree = ast.parse(text)
     found = faults_of_signs(text) + list(faults_of_imports(tree, package))
     found = found + list(faults_of_names(tree)) + list(faults_of_top(tree))
     bound = bound_names(tree)
-    methods = METHODS + [node.name for node in ast.walk(tree) if isinstance(node, ast.FunctionDef)]
+    methods = METHODS + list(own_methods)
     for node in ast.walk(tree):
         found.extend(faults_of_node(node, bound))
         if isinstance(node, ast.Call) and isinstance(node.func, ast.Attribute) and node.func.attr not in methods:
@@ -170,10 +194,23 @@ class PackageTest(unittest.TestCase):
 
     def test_texts(self):
         paths = sorted(PACKAGE.glob("*.py"))
-        self.assertGreaterEqual(len(paths), 5)
+        self.assertGreaterEqual(len(paths), 9)
         for path in paths:
             with self.subTest(path.name):
-                self.assertEqual(faults_of_text(path.read_bytes().decode("utf-8")), [])
+                text = path.read_bytes().decode("utf-8")
+                self.assertEqual(faults_of_text(text, own_methods=self.methods_and_values()[0]), [])
+
+    def methods_and_values(self):
+        pairs = [methods_and_values(ast.parse(path.read_text(encoding="utf-8"))) for path in PACKAGE.glob("*.py")]
+        return tuple(set().union(*names) for names in zip(*pairs))
+
+    def test_no_name_is_a_method_and_a_value(self):
+        methods, values = self.methods_and_values()
+        self.assertIn("next_step", methods)
+        self.assertIn("programs", values)
+        self.assertEqual(methods & values, set())
+        self.assertEqual([name for name in methods | values if any(hasattr(kind, name) for kind in PLAIN_KINDS)],
+                         ["__init__"])
 
     def test_no_two_files_draw_from_one_another(self):
         drawn = drawn_from(PACKAGE)
@@ -238,6 +275,9 @@ class CheckTest(unittest.TestCase):
             "def f(x):\n    assert x\n": "L6",
             "def f(x):\n    return x / 2\n": "L7",
             "def f(x):\n    return any(k for k in x)\n": "L7",
+            "def f(x):\n    return f'{x[0]}'\n": "L7",
+            "def f(x):\n    return f'{x!s}'\n": "L7",
+            "def f(x):\n    return f'{x:3}'\n": "L7",
             "def f(x):\n    return filter(None, x)\n": "L8",
             "def f(x):\n    return chr(x)\n": "L8",
             "def _f(x):\n    return x\n": "L12",

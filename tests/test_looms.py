@@ -5,60 +5,8 @@ import unittest
 
 from loomlook.errors import NoClaim, NoLoom, NoStep
 from loomlook.looms import loom_of
-from tests.helper import chain, deep_list, deep_tuple, spoiled, strange_things, things_with
-
-PARTS = ["size", "boxes", "locks", "programs", "workers", "claims"]
-
-STEPS = (
-    ("take", "l"),
-    ("get", "a", "x"),
-    ("set", "b", ("plus", ("own", "a"), ("number", 1))),
-    ("unless", ("less", ("own", "b"), ("number", 9)), 2),
-    ("put", "x", ("own", "b")),
-    ("add", "y", ("number", 99)),
-    ("give", "l"),
-)
-
-# A loom with something in each of its parts.
-ORDINARY = (
-    10,
-    (("x", 0), ("y", 9)),
-    ("l",),
-    (("adder", (("a", 0), ("b", 3)), STEPS),
-     ("watcher", (), (("wait", "x", ("number", 2)), ("check", ("number", 1)), ("skip", 0)))),
-    (0, 1, 0),
-    (("same", ("box", "x"), ("number", 2)), ("not", ("box", "y"))),
-)
-
-SMALLEST = (2, (), (), (("p", (), ()),), (0,), ())
-
-
-def letters(many, first="a"):
-    return [chr(ord(first) + turn) for turn in range(many)]
-
-
-def held(many, number=0):
-    return tuple((name, number) for name in letters(many))
-
-
-def greatest_program(name):
-    return (name, held(4, 15), (("set", "a", chain(("own", "d"), 4)),) * 29 + (("skip", 0),))
-
-
-GREATEST = (
-    16,
-    held(8, 15),
-    tuple(letters(4, "w")),
-    tuple(greatest_program(name * 8) for name in letters(4)),
-    (0, 1, 2, 3, 3, 0),
-    (chain(("box", "h"), 4),) * 4,
-)
-
-
-def with_part(loom, **changes):
-    parts = dict(zip(PARTS, loom))
-    parts.update(changes)
-    return tuple(parts[part] for part in PARTS)
+from tests.helper import GREATEST, ORDINARY, PARTS, SMALLEST, chain, deep_list, deep_tuple, held, letters
+from tests.helper import spoiled, strange_things, things_with, with_part
 
 
 def is_tuple(thing, fewest, most):
