@@ -8,17 +8,24 @@ MOST_STATES = 1500
 
 
 def seen(loom):
-    return list(found(Machine(loom)))
+    return list(plainly_found(loom))
 
 
 def ends(loom):
-    machine = Machine(loom)
-    return sorted([state for state in found(machine) if machine.able(state) == []])
+    return ends_among(loom, plainly_found(loom))
 
 
 def way_to(loom, state):
     # All is looked at, whatever the state: where there are too many, each is refused.
-    before = found(Machine(loom))
+    return way_back(plainly_found(loom), state)
+
+
+def ends_among(loom, states):
+    machine = Machine(loom)
+    return sorted([state for state in states if machine.able(state) == []])
+
+
+def way_back(before, state):
     if state not in before:
         return None
     way = []
@@ -34,7 +41,7 @@ def many(loom):
     weavings = {machine.first(): 1}
     total = 0
     # A state may be come to by weavings of unlike lengths: it is met here behind all that lead to it.
-    for state in sorted(found(machine), key=how_far):
+    for state in sorted(plainly_found(loom), key=how_far):
         workers = machine.able(state)
         if workers == []:
             total = total + weavings[state]
@@ -50,19 +57,26 @@ def closed(loom, states):
     return machine.first() in known and all([leads_into(machine, state, known) for state in known])
 
 
-def found(machine):
+def plainly_found(loom):
+    machine = Machine(loom)
+    return found(loom, lambda state: machine.able(state))
+
+
+def found(loom, goers):
     # Each state with the state and the worker by which it was found first: so these make the least way to it.
+    # The function goers tells the rising list of those workers, of the able ones, whose steps are done in a state.
+    machine = Machine(loom)
     before = {machine.first(): None}
     layer = [machine.first()]
     while layer != []:
-        layer = next_layer(machine, layer, before)
+        layer = next_layer(machine, goers, layer, before)
     return before
 
 
-def next_layer(machine, layer, before):
+def next_layer(machine, goers, layer, before):
     fresh = []
     for state in layer:
-        for worker in machine.able(state):
+        for worker in goers(state):
             behind = machine.step(state, worker)
             if behind not in before:
                 before[behind] = (state, worker)

@@ -1,5 +1,6 @@
 """Things that the tests of several modules use."""
 
+import itertools
 import random
 
 from loomlook.values import worth
@@ -203,6 +204,121 @@ def all_states(loom):
     return states
 
 
+def idlers(*lengths):
+    """A loom whose workers touch nothing, with so many steps each."""
+    programs = tuple((name, (), (("skip", 0),) * length) for name, length in zip("pqrs", sorted(set(lengths))))
+    numbers = tuple(sorted(set(lengths)).index(length) for length in lengths)
+    return (5, (), (), programs, numbers, ())
+
+
+def started(length, *others):
+    """The others begin when a worker of so many steps has ended: states are its steps, and all of theirs together."""
+    one = ("number", 1)
+    starter = ("starter", (), (("skip", 0),) * (length - 1) + (("put", "go", one),))
+    waiters = [(name, (), (("wait", "go", one),) + (("skip", 0),) * (other - 1)) for name, other in zip("pqr", others)]
+    return (2, (("go", 0),), (), (starter,) + tuple(waiters), tuple(range(1 + len(others))), ())
+
+
+def touch_told(step):
+    """What a step touches, and the way, told apart from the program; None where it touches nothing."""
+    match step:
+        case ("get", own, box):
+            return (box, "read")
+        case ("wait", box, value):
+            return (box, "read")
+        case ("put", box, value):
+            return (box, "write")
+        case ("add", box, value):
+            return (box, "add")
+        case ("take", lock) | ("give", lock):
+            return (lock, "lock")
+    return None
+
+
+def concern(step, other):
+    """Whether two steps are not apart."""
+    one = touch_told(step)
+    two = touch_told(other)
+    if one is None or two is None or one[0] != two[0]:
+        return False
+    return (one[1], two[1]) not in [("read", "read"), ("add", "add")]
+
+
+def next_told(loom, state, worker):
+    """The step that is next for a worker, None where it has ended or broke."""
+    steps = loom[3][loom[4][worker]][2]
+    place = state[2][worker][0]
+    return None if place in (-1, len(steps)) else steps[place]
+
+
+def exchanges_of(loom, weaving):
+    """The weavings that come of one by one exchange, each with the place of the exchange."""
+    state = first_of(loom)
+    done = []
+    for worker in weaving:
+        done.append((worker, next_told(loom, state, worker)))
+        state = stepped(loom, state, worker)
+    for k, ((one, step), (two, other)) in enumerate(zip(done, done[1:])):
+        if one != two and not concern(step, other):
+            yield k, weaving[:k] + [two, one] + weaving[k + 2:]
+
+
+def all_alike(loom, weaving):
+    """All weavings that are alike to one, itself among them, gone through by exchanges."""
+    found = [list(weaving)]
+    known = {tuple(weaving)}
+    for each in found:
+        for k, other in exchanges_of(loom, each):
+            if tuple(other) not in known:
+                known.add(tuple(other))
+                found.append(other)
+    return found
+
+
+def left_told(loom, state, worker):
+    """What a worker may still do."""
+    place = state[2][worker][0]
+    return [] if place == -1 else list(loom[3][loom[4][worker]][2][place:])
+
+
+def enough_told(loom, state, workers):
+    """Whether a set of workers is enough, word by word."""
+    others = [worker for worker in range(len(loom[4])) if worker not in workers]
+    steps = [next_told(loom, state, worker) for worker in workers]
+    concerned = any(concern(step, left) for step in steps if step is not None
+                    for other in others for left in left_told(loom, state, other))
+    return any(worker in able_in(loom, state) for worker in workers) and not concerned
+
+
+def kept_told(loom, state):
+    """What is kept in a state: the least enough set with each able worker is looked for among all sets."""
+    able = able_in(loom, state)
+    everyone = range(len(loom[4]))
+    sets = [each for many in everyone for each in itertools.combinations(everyone, many + 1)]
+    chosen = ([], [])
+    for worker in able:
+        fitting = [each for each in sets if worker in each and enough_told(loom, state, each)]
+        least = fitting[0]
+        assert all(set(least) <= set(each) for each in fitting)
+        going = [each for each in least if each in able]
+        if chosen == ([], []) or len(going) < len(chosen[1]):
+            chosen = (list(least), going)
+    return chosen
+
+
+def lean_weavings(loom):
+    """Every weaving by kept workers alone, with the state it comes to, as all_weavings tells all of them."""
+    going = {}
+    layer = [([], first_of(loom))]
+    while layer:
+        yield from layer
+        for weaving, state in layer:
+            if state not in going:
+                going[state] = kept_told(loom, state)[1]
+        layer = [(weaving + [worker], stepped(loom, state, worker))
+                 for weaving, state in layer for worker in going[state]]
+
+
 def chance_value(chance, names, depth):
     """A value over names of one word (own or box) and numbers."""
     word = chance.choice(["number", "name", "plus", "minus", "less", "same", "not"][:2 if depth == 1 else 7])
@@ -251,3 +367,15 @@ def chance_loom(seed, most_workers=3, most_steps=3, depth=2):
     workers = [chance.randrange(len(programs)) for turn in range(chance.randint(1, most_workers))]
     claims = [chance_value(chance, ("box", box_names), depth) for turn in range(chance.randint(0, 2))]
     return (size, tuple(boxes), tuple(locks), tuple(programs), tuple(workers), tuple(claims))
+
+
+def busy_loom(seed, most_workers=3, most_steps=3):
+    """A loom of many, the same one for the same seed, whose steps mostly touch one of two boxes or a lock."""
+    chance = random.Random(seed)
+    steps = [("get", "a", "x"), ("get", "a", "y"), ("put", "x", ("number", 1)), ("put", "y", ("own", "a")),
+             ("add", "x", ("number", 1)), ("add", "x", ("own", "a")), ("wait", "x", ("number", 1)),
+             ("wait", "y", ("own", "a")), ("take", "l"), ("give", "l"), ("skip", 0), ("unless", ("own", "a"), 0)]
+    programs = [[chance.choice(steps) for place in range(chance.randint(1, most_steps))] for name in "pq"]
+    made = tuple((name, (("a", 0),), tuple(program)) for name, program in zip("pq", programs))
+    workers = tuple(chance.randrange(2) for turn in range(chance.randint(2, most_workers)))
+    return (3, (("x", 0), ("y", 0)), ("l",), made, workers, ())

@@ -7,8 +7,8 @@ from loomlook.errors import TooMany
 from loomlook.looking import closed, ends, many, seen, way_to
 from loomlook.looms import loom_of
 from loomlook.weaving import woven
-from tests.helper import ORDINARY, SMALLEST, able_in, all_states, all_weavings, chance_loom, first_of, kinds_of
-from tests.helper import loom_with, stepped
+from tests.helper import ORDINARY, SMALLEST, able_in, all_states, all_weavings, chance_loom, first_of, idlers
+from tests.helper import kinds_of, loom_with, started, stepped
 
 ONE = ("number", 1)
 ZERO = ("number", 0)
@@ -18,20 +18,6 @@ RACE = loom_with(*[[("get", "a", "x"), ("put", "x", ("plus", ("own", "a"), ONE))
 # One worker may come to the same state by one step or by three: the longer weavings must be counted too.
 SHORT_AND_LONG = loom_with([("get", "a", "x"), ("unless", ("own", "a"), 2), ("set", "a", ZERO), ("skip", 0)],
                            [("put", "x", ONE), ("put", "x", ZERO)])
-
-
-def idlers(*lengths):
-    """A loom whose workers touch nothing, with so many steps each."""
-    programs = tuple((name, (), (("skip", 0),) * length) for name, length in zip("pqrs", sorted(set(lengths))))
-    numbers = tuple(sorted(set(lengths)).index(length) for length in lengths)
-    return loom_of(5, (), (), programs, numbers, ())
-
-
-def started(length, *others):
-    """The others begin when a worker of so many steps has ended: states are its steps, and all of theirs together."""
-    starter = ("starter", (), (("skip", 0),) * (length - 1) + (("put", "go", ONE),))
-    waiters = [(name, (), (("wait", "go", ONE),) + (("skip", 0),) * (other - 1)) for name, other in zip("pqr", others)]
-    return loom_of(2, (("go", 0),), (), (starter,) + tuple(waiters), tuple(range(1 + len(others))), ())
 
 
 # 3 * 16 * 31 = 1488 states behind the start.

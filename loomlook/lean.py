@@ -1,0 +1,21 @@
+"""Going lean: the states that come of kept workers' steps alone, their ends, and the ways to them."""
+
+from loomlook.leaving import Leaver
+from loomlook.looking import ends_among, found, way_back
+
+
+def lean_seen(loom):
+    return list(lean_found(loom))
+
+
+def lean_ends(loom):
+    return ends_among(loom, lean_found(loom))
+
+
+def lean_way(loom, state):
+    return way_back(lean_found(loom), state)
+
+
+def lean_found(loom):
+    leaver = Leaver(loom)
+    return found(loom, lambda state: leaver.choose(state)[1])
