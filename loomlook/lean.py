@@ -1,7 +1,7 @@
 """Going lean: the states that come of kept workers' steps alone, their ends, and the ways to them."""
 
-from loomlook.leaving import Leaver
-from loomlook.looking import ends_among, found, way_back
+from loomlook.leaving import kept_goers
+from loomlook.looking import ends_among, found, itself, way_back
 
 
 def lean_seen(loom):
@@ -17,5 +17,4 @@ def lean_way(loom, state):
 
 
 def lean_found(loom):
-    leaver = Leaver(loom)
-    return found(loom, lambda state: leaver.choose(state)[1])
+    return found(loom, kept_goers(loom), itself)

@@ -16,6 +16,12 @@ def kept(loom, state):
     return Leaver(loom).choose(state)
 
 
+def kept_goers(loom):
+    # One Leaver for all states: what it has learnt of some places is not looked for again.
+    leaver = Leaver(loom)
+    return lambda state: leaver.choose(state)[1]
+
+
 class Leaver:
     def __init__(self, loom):
         self.machine = Machine(loom)

@@ -58,26 +58,36 @@ def closed(loom, states):
 
 
 def plainly_found(loom):
+    return found(loom, able_goers(loom), itself)
+
+
+def able_goers(loom):
     machine = Machine(loom)
-    return found(loom, lambda state: machine.able(state))
+    return lambda state: machine.able(state)
 
 
-def found(loom, goers):
+def itself(state):
+    return state
+
+
+def found(loom, goers, stand_in):
     # Each state with the state and the worker by which it was found first: so these make the least way to it.
     # The function goers tells the rising list of those workers, of the able ones, whose steps are done in a state.
+    # The function stand_in tells the state as which one is found: itself, or one that stands for several.
     machine = Machine(loom)
-    before = {machine.first(): None}
-    layer = [machine.first()]
+    first = stand_in(machine.first())
+    before = {first: None}
+    layer = [first]
     while layer != []:
-        layer = next_layer(machine, goers, layer, before)
+        layer = next_layer(machine, goers, stand_in, layer, before)
     return before
 
 
-def next_layer(machine, goers, layer, before):
+def next_layer(machine, goers, stand_in, layer, before):
     fresh = []
     for state in layer:
         for worker in goers(state):
-            behind = machine.step(state, worker)
+            behind = stand_in(machine.step(state, worker))
             if behind not in before:
                 before[behind] = (state, worker)
                 fresh.append(behind)

@@ -1,7 +1,9 @@
 """Things that the tests of several modules use."""
 
+import copy
 import itertools
 import random
+import unittest
 
 from loomlook.values import worth
 
@@ -219,6 +221,13 @@ def started(length, *others):
     return (2, (("go", 0),), (), (starter,) + tuple(waiters), tuple(range(1 + len(others))), ())
 
 
+def crowd(length, *others):
+    """As started, but all steps concern one another, so that all able workers are kept."""
+    one = ("number", 1)
+    starter = [("put", "x", ("number", 0))] * (length - 1) + [("put", "x", one)]
+    return loom_with(starter, *[[("wait", "x", one)] + [("put", "x", one)] * (other - 1) for other in others])
+
+
 def touch_told(step):
     """What a step touches, and the way, told apart from the program; None where it touches nothing."""
     match step:
@@ -319,6 +328,54 @@ def lean_weavings(loom):
                  for weaving, state in layer for worker in going[state]]
 
 
+def all_exchanges(loom):
+    """Every exchange of alike workers."""
+    workers = loom[4]
+    for exchange in itertools.permutations(range(len(workers))):
+        if all(workers[worker] == workers[exchange[worker]] for worker in exchange):
+            yield list(exchange)
+
+
+def exchanged_told(state, exchange):
+    """A state exchanged, told apart from the program."""
+    boxes, holders, spots = state
+    made = {exchange[worker]: spot for worker, spot in enumerate(spots)}
+    changed = dict(enumerate(exchange))
+    changed[-1] = -1
+    return (boxes, tuple(changed[holder] for holder in holders), tuple(made[worker] for worker in sorted(made)))
+
+
+def folded_told(loom, state):
+    """The least of all states that exchanges make of one, looked for among all of them."""
+    made = [exchanged_told(state, exchange) for exchange in all_exchanges(loom)]
+    return min(made, key=lambda each: (each[2], each[1]))
+
+
+def folded_states(loom, lean):
+    """The folded states that are come to, in the order in which they are found."""
+    states = [folded_told(loom, first_of(loom))]
+    known = set(states)
+    for state in states:
+        for worker in kept_told(loom, state)[1] if lean else able_in(loom, state):
+            behind = folded_told(loom, stepped(loom, state, worker))
+            if behind not in known:
+                known.add(behind)
+                states.append(behind)
+    return states
+
+
+def word_told(loom, state):
+    """What an end is called, told apart from the program."""
+    size, boxes, locks, programs, workers, claims = loom
+    places = [place for place, owns in state[2]]
+    numbers = dict(zip([name for name, number in boxes], state[0]))
+    if -1 in places:
+        return "broken"
+    if any(place < len(programs[worker][2]) for place, worker in zip(places, workers)):
+        return "stuck"
+    return "good" if all(worth(claim, size, {}, numbers) for claim in claims) else "wrong"
+
+
 def chance_value(chance, names, depth):
     """A value over names of one word (own or box) and numbers."""
     word = chance.choice(["number", "name", "plus", "minus", "less", "same", "not"][:2 if depth == 1 else 7])
@@ -379,3 +436,50 @@ def busy_loom(seed, most_workers=3, most_steps=3):
     made = tuple((name, (("a", 0),), tuple(program)) for name, program in zip("pq", programs))
     workers = tuple(chance.randrange(2) for turn in range(chance.randint(2, most_workers)))
     return (3, (("x", 0), ("y", 0)), ("l",), made, workers, ())
+
+
+def paired_loom(seed, most_workers=3):
+    """A loom of many, the same one for the same seed, mostly with alike workers, and often with ends of several words."""
+    chance = random.Random(seed)
+    one = ("number", 1)
+    pieces = [[("get", "a", "x"), ("put", "x", ("plus", ("own", "a"), one))], [("take", "l"), ("take", "m")],
+              [("take", "m"), ("take", "l")], [("take", "l"), ("add", "y", one), ("give", "l")], [("add", "x", one)],
+              [("get", "a", "x"), ("check", ("less", ("own", "a"), one))], [("get", "a", "y")], [("take", "l")],
+              [("wait", "y", ("own", "a"))], [("give", "l")], [("unless", ("own", "a"), 0)], [("put", "y", one)],
+              [("get", "a", "x"), ("unless", ("own", "a"), 1), ("take", "m")]]
+    programs = [sum(chance.sample(pieces, chance.randint(1, 2)), []) for name in "pq"]
+    made = tuple((name, (("a", 0),), tuple(program)) for name, program in zip("pq", programs))
+    workers = tuple(chance.choice([0, 0, 1]) for turn in range(chance.randint(2, most_workers)))
+    claims = [("not", ("same", ("box", "x"), one)), ("less", ("box", "y"), ("number", 2))]
+    chance.shuffle(claims)
+    return (3, (("x", 0), ("y", 0)), ("l", "m"), made, workers, tuple(claims[:chance.randint(0, 2)]))
+
+
+class HandedTest(unittest.TestCase):
+    """What several tests ask of what is told, refused and handed in."""
+
+    def same(self, one, other):
+        self.assertEqual(kinds_of(one), kinds_of(other))
+
+    def refused(self, error, call, *handed):
+        kept = copy.deepcopy(handed)
+        try:
+            call(*handed)
+        except ValueError as e:
+            self.assertIs(type(e), error)
+        else:
+            self.fail("not refused")
+        self.same(handed, kept)
+
+    def own(self, call, *handed):
+        """A list that was told is changed, and what is told later is as at first; so is what was handed in."""
+        before = copy.deepcopy(handed)
+        first = call(*handed)
+        kept = copy.deepcopy(first)
+        later = call(*handed)
+        first.reverse()
+        first.append(None)
+        self.same(call(*handed), kept)
+        call(*handed).clear()
+        self.same(later, kept)
+        self.same(handed, before)

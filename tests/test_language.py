@@ -194,7 +194,7 @@ class PackageTest(unittest.TestCase):
 
     def test_texts(self):
         paths = sorted(PACKAGE.glob("*.py"))
-        self.assertGreaterEqual(len(paths), 15)
+        self.assertGreaterEqual(len(paths), 19)
         for path in paths:
             with self.subTest(path.name):
                 text = path.read_bytes().decode("utf-8")

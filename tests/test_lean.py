@@ -6,8 +6,8 @@ from loomlook.lean import lean_ends, lean_seen, lean_way
 from loomlook.looking import ends, seen, way_to
 from loomlook.looms import loom_of
 from loomlook.weaving import woven
-from tests.helper import GREATEST, ORDINARY, SMALLEST, able_in, all_states, busy_loom, chance_loom, first_of, idlers
-from tests.helper import kept_told, kinds_of, lean_weavings, loom_with, started, stepped
+from tests.helper import GREATEST, ORDINARY, SMALLEST, able_in, all_states, busy_loom, chance_loom, crowd, first_of
+from tests.helper import idlers, kept_told, kinds_of, lean_weavings, loom_with, started, stepped
 
 ONE = ("number", 1)
 ZERO = ("number", 0)
@@ -21,15 +21,9 @@ IDLE = ("skip", 0)
 CROSSING = loom_with([("take", "l"), ("take", "m")], [("take", "m"), ("take", "l")])
 
 
-def crowd(length, *others):
-    """The others begin when a worker of so many steps has ended; all steps concern one another, so all are kept."""
-    starter = [("put", "x", ZERO)] * (length - 1) + [X]
-    return loom_of(*loom_with(starter, *[[("wait", "x", ONE)] + [X] * (other - 1) for other in others]))
-
-
 # 3 * 16 * 31 = 1488 states behind the start.
-JUST_ENOUGH = crowd(12, 2, 15, 30)
-ONE_TOO_MANY = crowd(13, 2, 15, 30)
+JUST_ENOUGH = loom_of(*crowd(12, 2, 15, 30))
+ONE_TOO_MANY = loom_of(*crowd(13, 2, 15, 30))
 
 
 class LeanTest(unittest.TestCase):
